@@ -1,0 +1,1 @@
+"""Relume: a power net that is lit again after a dark."""
