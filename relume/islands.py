@@ -32,3 +32,21 @@ def is_lit(net, state, island):
         if stations[k][0] in island:
             return True
     return False
+
+
+def lines_in(net, state, island):
+    """Return the indexes of the closed lines between the nodes of the island."""
+    lines = net[1]
+    return [k for k in state[0] if lines[k][0] in island]
+
+
+def stations_in(net, state, island):
+    """Return the indexes of the running stations at the nodes of the island."""
+    stations = net[2]
+    return [k for k in state[1] if stations[k][0] in island]
+
+
+def loads_in(net, state, island):
+    """Return the indexes of the fed loads at the nodes of the island."""
+    loads = net[3]
+    return [k for k in state[2] if loads[k][0] in island]

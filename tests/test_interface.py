@@ -11,6 +11,18 @@ PACKAGE = Path(__file__).resolve().parent.parent / "relume"
 FUNCTIONS = {
     "nets": {"check_net": ["net"], "check_state": ["net", "state"], "is_full": ["net", "state"]},
     "islands": {"islands_of": ["net", "state"], "is_lit": ["net", "state", "island"]},
+    "simplex": {"solve": ["conditions", "count"]},
+    "dispatch": {"conditions_of": ["net", "state", "island"],
+                 "is_dispatch": ["net", "state", "island", "outputs", "potentials"],
+                 "is_barrier": ["net", "state", "island", "integers"],
+                 "run_island": ["net", "state", "island"],
+                 "is_feasible": ["net", "state", "island"]},
+    "moves": {"is_sound": ["net", "state"], "settled": ["net", "state"],
+              "after_step": ["net", "state", "step"], "steps_of": ["net", "state"],
+              "after_fault": ["net", "state", "fault"], "check_task": ["task"],
+              "check_place": ["task", "place"], "answers": ["task", "place", "step"]},
+    "game": {"is_guide": ["task", "place", "guide"], "is_trap": ["task", "place", "trap"],
+             "decide": ["task", "place"]},
 }
 
 CLASSES = {
@@ -51,6 +63,44 @@ class InterfaceTest(unittest.TestCase):
         self.assertIs(nets.is_full(net=net, state=state), True)
         self.assertEqual(islands.islands_of(net=net, state=state), [[0, 1]])
         self.assertIs(islands.is_lit(net=net, state=state, island=[0, 1]), True)
+
+    def test_arguments_of_dispatch_may_be_passed_by_name(self):
+        simplex = import_module("relume.simplex")
+        dispatch = import_module("relume.dispatch")
+        net = (1, [], [(0, 1, 1, True)], [(0, 1)])
+        state = ((), (0,), (0,))
+        self.assertEqual(simplex.solve(conditions=[[-1]], count=0), ("no", [1]))
+        conditions = dispatch.conditions_of(net=net, state=state, island=[0])
+        self.assertEqual(conditions, [[-1, 1], [1, -1], [-1, 1], [1, -1]])
+        self.assertEqual(dispatch.run_island(net=net, state=state, island=[0]),
+                         ("yes", [(1, 1)], [(0, 1)]))
+        self.assertIs(dispatch.is_feasible(net=net, state=state, island=[0]), True)
+        self.assertIs(dispatch.is_dispatch(net=net, state=state, island=[0], outputs=[(1, 1)],
+                                           potentials=[(0, 1)]), True)
+        self.assertIs(dispatch.is_barrier(net=net, state=state, island=[0], integers=[0] * 4), False)
+
+    def test_arguments_of_moves_may_be_passed_by_name(self):
+        moves = import_module("relume.moves")
+        net = (1, [], [(0, 0, 1, True)], [(0, 1)])
+        state = ((), (0,), ())
+        self.assertIs(moves.is_sound(net=net, state=state), True)
+        self.assertEqual(moves.settled(net=net, state=state), state)
+        self.assertEqual(moves.after_step(net=net, state=state, step=("feed", 0)), ((), (0,), (0,)))
+        self.assertEqual(moves.steps_of(net=net, state=state), [("end", 0), ("feed", 0)])
+        self.assertEqual(moves.after_fault(net=net, state=state, fault=("station", 0)), ((), (), ()))
+        task = (net, [("station", 0)])
+        self.assertIsNone(moves.check_task(task=task))
+        self.assertIsNone(moves.check_place(task=task, place=(state, 1)))
+        self.assertEqual(moves.answers(task=task, place=(state, 1), step=("end", 0)),
+                         [(((), (), ()), 1)])
+
+    def test_arguments_of_game_may_be_passed_by_name(self):
+        game = import_module("relume.game")
+        task = ((1, [], [], []), [])
+        place = (((), (), ()), 0)
+        self.assertEqual(game.decide(task=task, place=place), ("lit", 0, []))
+        self.assertIs(game.is_guide(task=task, place=place, guide=[]), True)
+        self.assertIs(game.is_trap(task=task, place=place, trap=[]), False)
 
 
 if __name__ == "__main__":

@@ -4,7 +4,7 @@ import copy
 import unittest
 
 from relume.islands import is_lit, islands_of
-from tests.helper import all_parts, assert_unchanged
+from tests.helper import all_parts, assert_unchanged, wanted_islands
 
 
 def line(a, b):
@@ -13,29 +13,6 @@ def line(a, b):
 
 def station(node):
     return (node, 0, 10, False)
-
-
-def reached(net, closed, start):
-    """Walk from one node over closed lines; another way than the program's, to compare with."""
-    found = {start}
-    todo = [start]
-    while todo:
-        node = todo.pop()
-        for k in closed:
-            a, b = net[1][k][:2]
-            for here, there in ((a, b), (b, a)):
-                if here == node and there not in found:
-                    found.add(there)
-                    todo.append(there)
-    return sorted(found)
-
-
-def wanted_islands(net, closed):
-    found = []
-    for node in range(net[0]):
-        if not any(node in island for island in found):
-            found.append(reached(net, closed, node))
-    return found
 
 
 NETS = [
