@@ -1,7 +1,7 @@
 """Lighting against faults: guides, traps, and the decision which of them a place has."""
 
 from relume.board import Board
-from relume.ranks import choices_from, decided_choice, ranks_of
+from relume.ranks import decided_choice, ranked_choices
 
 
 def is_guide(task, place, guide):
@@ -66,10 +66,7 @@ def are_ascending(places):
 
 def decide(task, place):
     """Return the decision on the place."""
-    net, faults = task
-    board = Board(net, faults)
-    choices = choices_from(board, place)
-    ranks = ranks_of(board, choices)
+    choices, ranks = ranked_choices(task, place)
     if place not in ranks:
         return ("dark", sorted([here for here in choices if here not in ranks]))
     return ("lit", ranks[place], guide_from(choices, ranks, place))

@@ -1,8 +1,17 @@
 """The ranks of the places that are reached from a place."""
 
+from relume.board import Board
 from relume.errors import TooLong
 
 MOST_PLACES = 1500
+
+
+def ranked_choices(task, place):
+    """Return, for each place that is reached from the place, its steps with their answers; and the ranks."""
+    net, faults = task
+    board = Board(net, faults)
+    choices = choices_from(board, place)
+    return choices, ranks_of(board, choices)
 
 
 def choices_from(board, place):

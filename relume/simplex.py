@@ -1,24 +1,45 @@
-"""Conditions on unknowns: unknowns that satisfy them, or integers that show that there are none."""
+"""Conditions on unknowns: unknowns that satisfy them, or integers that show that there are none.
+
+A goal is a list with an integer for each unknown; its value is the sum of them
+times the unknowns.
+"""
 
 from math import gcd
 
 from relume.errors import OutOfRange
-from relume.ratios import on_one_low, ratio
+from relume.ratios import is_ratio, on_one_low, ratio
 
 
 def solve(conditions, count):
     """Return the answer for the conditions on so many unknowns."""
     check_conditions(conditions, count)
     table = Table(conditions, count)
-    table.tell_unknowns()
-    at = table.failing_row()
-    while at is not None:
-        column = table.helping_column(at)
-        if column is None:
-            return ("no", table.integers(at))
-        table.exchange(at, column)
-        at = table.failing_row()
+    at = table.hopeless_row()
+    if at is not None:
+        return ("no", table.integers(at))
     return ("yes", table.unknowns())
+
+
+def solve_least(conditions, goal):
+    """Return "least", the least value of the goal, unknowns that have it, and weights; or as solve.
+
+    Each weight is a fraction of at least 0 for a condition; the sum of the
+    conditions, each times its weight, is the goal less its least value. The
+    conditions must leave each unknown only one value if all of their values are
+    known, and let the goal not fall for ever.
+    """
+    table = Table(conditions, len(goal))
+    at = table.hopeless_row()
+    if at is not None:
+        return ("no", table.integers(at))
+    row = table.lacking_row(goal)
+    column = table.helping_column(row)
+    while column is not None:
+        table.exchange(table.binding_row(column), column)
+        row = table.lacking_row(goal)
+        column = table.helping_column(row)
+    weights = [ratio(number, table.low) for number in table.shares(row)]
+    return ("least", ratio(-row[0], table.low), table.unknowns(), weights)
 
 
 def check_conditions(conditions, count):
@@ -70,27 +91,64 @@ class Table:
                     self.exchange(at, column)
                     break
 
+    def hopeless_row(self):
+        """Exchange until all conditions hold, and return None, or until no column helps a row, and return that."""
+        self.tell_unknowns()
+        at = self.failing_row()
+        while at is not None:
+            column = self.helping_column(self.rows[at])
+            if column is None:
+                return at
+            self.exchange(at, column)
+            at = self.failing_row()
+        return None
+
     def failing_row(self):
         """Return the row of the least condition that does not hold, or None."""
         failing = [(self.told[at], at) for at, row in enumerate(self.rows)
                    if self.told[at] < self.many and row[0] < 0]
         return min(failing)[1] if failing else None
 
-    def helping_column(self, at):
+    def helping_column(self, row):
         """Return the column of the least condition whose value raises that of the row, or None."""
         # To take the least ones, here and for the rows, is Bland's rule: no table comes again.
         helping = [(variable, column) for column, variable in enumerate(self.outer)
-                   if 0 <= variable < self.many and self.rows[at][column] > 0]
+                   if 0 <= variable < self.many and row[column] > 0]
         return min(helping)[1] if helping else None
 
-    def integers(self, at):
-        """Return the integers that a failing row shows which no column helps."""
+    def binding_row(self, column):
+        """Return the row of the least condition which fails first while the variable of the column grows."""
+        binding = sorted([(variable, at) for at, variable in enumerate(self.told)
+                          if variable < self.many and self.rows[at][column] < 0])
+        first = binding[0][1]
+        for _, at in binding:
+            row = self.rows[at]
+            if row[0] * self.rows[first][column] > self.rows[first][0] * row[column]:
+                first = at
+        return first
+
+    def lacking_row(self, goal):
+        """Return the row of a variable that is minus the goal; all unknowns are told by rows."""
+        told = dict(zip(self.told, self.rows))
+        lacking = [0] * len(self.outer)
+        for at, times in enumerate(goal):
+            row = told[self.many + at]
+            lacking = [mine - times * number for mine, number in zip(lacking, row)]
+        return lacking
+
+    def shares(self, row):
+        """Return, for each condition, how much of it must be added to the row so that it falls out of it."""
         found = [0] * self.many
-        found[self.told[at]] = self.low
-        for variable, number in zip(self.outer, self.rows[at]):
+        for variable, number in zip(self.outer, row):
             # An unknown that is still outside has only zeros in the rows of conditions.
             if 0 <= variable < self.many:
                 found[variable] = -number
+        return found
+
+    def integers(self, at):
+        """Return the integers that a failing row shows which no column helps."""
+        found = self.shares(self.rows[at])
+        found[self.told[at]] = self.low
         return without_divisor(found)
 
     def unknowns(self):
@@ -136,7 +194,25 @@ def are_refuted(conditions, integers):
     """Tell whether the conditions, one at least, each times its integer, add up to a number below 0."""
     if len(integers) != len(conditions) or min(integers) < 0:
         return False
+    sums = summed(conditions, integers)
+    return sums[0] < 0 and not any(sums[1:])
+
+
+def are_weights(conditions, goal, value, weights):
+    """Tell whether the fractions show that no unknowns make the goal less than the value, a fraction."""
+    if len(weights) != len(conditions):
+        return False
+    for weight in weights:
+        if not is_ratio(weight) or weight[0] < 0:
+            return False
+    tops, low = on_one_low(weights)
+    sums = summed(conditions, tops)
+    return sums[0] * value[1] == -value[0] * low and sums[1:] == [low * number for number in goal]
+
+
+def summed(conditions, integers):
+    """Return the sum of the conditions, one at least, each times its integer."""
     sums = [0] * len(conditions[0])
     for condition, times in zip(conditions, integers):
         sums = [total + times * number for total, number in zip(sums, condition)]
-    return sums[0] < 0 and not any(sums[1:])
+    return sums

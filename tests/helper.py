@@ -4,7 +4,9 @@ import copy
 from fractions import Fraction
 from itertools import combinations
 from math import gcd
+from random import Random
 
+from relume.costs import least_run
 from relume.dispatch import run_island
 
 DARK = ((), (), ())
@@ -19,6 +21,16 @@ def all_states(net):
     """Return all states of the net."""
     return [(closed, running, fed) for closed in all_parts(len(net[1]))
             for running in all_parts(len(net[2])) for fed in all_parts(len(net[3]))]
+
+
+def pair(value):
+    """Return the fraction of this value as a tuple."""
+    value = Fraction(value)
+    return (value.numerator, value.denominator)
+
+
+def pairs(*values):
+    return [pair(value) for value in values]
 
 
 # Checks of promises 1 and 2.
@@ -357,3 +369,231 @@ def wanted_decision(task, place):
         guide[here] = good[0][0]
         todo += good[0][1]
     return ("lit", ranks[place], [(here, ranks[here], guide[here]) for here in sorted(guide)])
+
+
+def wanted_play(task, place, choices):
+    """Return the play of promise 22, or None if the place has no rank."""
+    decision = wanted_decision(task, place)
+    if decision[0] == "dark":
+        return None
+    steps = {here: step for here, _, step in decision[2]}
+    found = [place]
+    left = list(choices)
+    while not full(task[0], found[-1][0]):
+        told = wanted_answers(task, found[-1], steps[found[-1]])
+        found.append(told[left.pop(0) % len(told)] if left else told[0])
+    return found
+
+
+# Part 6: costs and losses.
+
+def wanted_units(net, state, island, costs):
+    """Return the costs of the stations of the island, in order."""
+    return [costs[k] for k in state[1] if net[2][k][0] in island]
+
+
+def proves_least(net, state, island, costs, answer):
+    """Tell whether the answer is right, by the words of promise 26."""
+    _, cost, outputs, potentials, weights = answer
+    if not proves_dispatch(net, state, island, outputs, potentials):
+        return False
+    conditions = wanted_conditions(net, state, island)
+    if len(weights) != len(conditions) or not all(is_lowest(found) for found in [cost] + weights):
+        return False
+    cost = Fraction(*cost)
+    weights = [Fraction(*weight) for weight in weights]
+    units = wanted_units(net, state, island, costs)
+    if min(weights) < 0 or cost != sum(unit * Fraction(*output) for unit, output in zip(units, outputs)):
+        return False
+    sums = [sum(weight * number for weight, number in zip(weights, column)) for column in zip(*conditions)]
+    return sums == [-cost] + units + [0] * (len(island) - 1)
+
+
+def proved_cost(net, state, island, costs):
+    """Return the least cost of the island, by an answer that is proved here, or None if it is not feasible."""
+    answer = least_run(net, state, island, costs)
+    if answer[0] == "no":
+        assert proves_none(wanted_conditions(net, state, island), answer[1])
+        return None
+    assert proves_least(net, state, island, costs, answer)
+    return Fraction(*answer[1])
+
+
+def wanted_total(net, state, costs):
+    """Return the total cost of promise 27, a fraction, or None."""
+    found = [proved_cost(net, state, island, costs) for island in wanted_islands(net, state[0])
+             if lit(net, state, island)]
+    return None if None in found else pair(sum(found))
+
+
+def wanted_loss(net, state, fault):
+    """Return the loss of a fault that can strike, by the words of promise 28."""
+    after = wanted_fault(net, state, fault)
+    stopped = set(state[1]) - set(after[1])
+    if fault[0] == "station":
+        stopped.remove(fault[1])
+    return (sorted(stopped), sorted(set(state[2]) - set(after[2])))
+
+
+def wanted_worst(task, state, strikes):
+    """Return the worst loss of promise 29: all ways are gone, each to its end."""
+    if strikes == 0:
+        return 0
+    found = [0]
+    for fault in task[1]:
+        after = wanted_fault(task[0], state, fault)
+        if after is not None:
+            loads = wanted_loss(task[0], state, fault)[1]
+            found.append(len(loads) + wanted_worst(task, after, strikes - 1))
+    return max(found)
+
+
+# Examples: islands.
+
+def chain(strength, limit, least, greatest, amount):
+    """Return a net of a station at the node 0, a line, and a load at the node 1."""
+    return (2, [(0, 1, strength, limit)], [(0, least, greatest, True)], [(1, amount)])
+
+
+ALL = ((0,), (0,), (0,))
+
+# A net with two islands, open lines, a station that stands and a load that is not fed.
+PARTED = (6,
+          [(0, 2, 3, 10), (1, 4, 5, 20), (2, 5, 2, 0), (0, 1, 9, 9), (1, 4, 1, 1000), (0, 5, 4, 7)],
+          [(2, 1, 8, True), (4, 0, 30, False), (0, 2, 2, False), (1, 5, 6, True)],
+          [(5, 4), (1, 6), (3, 2), (0, 1)])
+PARTED_STATE = ((0, 1, 2, 4), (0, 1, 2), (0, 1, 3))
+
+# Two lines to the node 2 that bear just their limits, so that all potentials are fixed.
+FIXED = (3, [(0, 1, 2, 1000), (0, 2, 3, 1), (1, 2, 5, 1)], [(0, 0, 9, True), (1, 0, 9, True)], [(2, 2)])
+FIXED_STATE = ((0, 1, 2), (0, 1), (0,))
+
+# The greatest nets: a ring, and a tree with a line twice.
+RING = (8, [(k, k + 1, 3 + k, 40 + k) for k in range(7)] + [(0, 7, 11, 60)],
+        [(0, 0, 50, True), (3, 5, 60, False), (3, 0, 10, True), (6, 20, 30, False)],
+        [(1, 20), (4, 25), (4, 5), (7, 31)])
+TREE = (8, [(0, 4, 1, 30), (1, 4, 1000, 25), (4, 7, 7, 1000), (2, 7, 13, 90), (3, 7, 2, 90),
+            (3, 5, 6, 5), (3, 5, 3, 5), (3, 6, 1, 30)],
+        [(0, 0, 30, True), (1, 25, 25, False), (2, 0, 1000, False), (6, 3, 30, True)],
+        [(5, 10), (5, 1), (7, 60), (0, 9)])
+WHOLE = (tuple(range(8)), (0, 1, 2, 3), (0, 1, 2, 3))
+
+
+def random_net(random):
+    """Return a net whose islands are often close to what they can bear."""
+    nodes = random.randint(1, 8)
+    lines = []
+    for _ in range(random.randint(0, 8) if nodes > 1 else 0):
+        a, b = sorted(random.sample(range(nodes), 2))
+        lines.append((a, b, random.choice((1, 1, 2, 7, 1000)), random.choice((0, 1, 5, 10, 1000))))
+    stations = []
+    for _ in range(random.randint(0, 4)):
+        least = random.choice((0, 0, 1, 5, 1000))
+        stations.append((random.randrange(nodes), least, random.choice((least, max(least, 12), 1000)),
+                         random.choice((True, False))))
+    loads = [(random.randrange(nodes), random.choice((1, 2, 6, 9, 1000)))
+             for _ in range(random.randint(0, 4))]
+    return (nodes, lines, stations, loads)
+
+
+def random_part(random, many, chance):
+    return tuple(k for k in range(many) if random.random() < chance)
+
+
+def random_islands(seed, many):
+    """Return nets, states and islands, most of them lit ones."""
+    random = Random(seed)
+    found = []
+    while len(found) < many:
+        net = random_net(random)
+        state = tuple(random_part(random, len(items), 0.8) for items in net[1:])
+        for island in wanted_islands(net, state[0]):
+            if inner_items(net, state, island)[1] or random.random() < 0.1:
+                found.append((net, state, island))
+    return found
+
+
+# Examples: places.
+
+# One node with a station that begins by itself, and a load.
+ALONE = (1, [], [(0, 0, 5, True)], [(0, 5)])
+ON = ((), (0,), ())
+LIT = ((), (0,), (0,))
+
+# The station begins not by itself; the load is behind a line.
+BEHIND = (2, [(0, 1, 1, 5)], [(0, 0, 5, False)], [(1, 5)])
+
+# Two lines beside each other, each of which bears the load alone.
+TWIN = (2, [(0, 1, 1, 5), (0, 1, 1, 5)], [(0, 0, 9, True)], [(1, 5)])
+
+# 8 nodes, 8 lines, 4 stations and 4 loads: four parts, three of which are lit and may not change.
+GREAT = (8,
+         [(0, 1, 1, 5), (0, 1, 1, 5), (2, 3, 1, 5), (4, 5, 1, 5), (6, 7, 1, 5), (6, 7, 2, 5),
+          (1, 2, 1, 0), (3, 4, 1, 0)],
+         [(0, 5, 5, False), (2, 5, 5, False), (4, 5, 5, False), (6, 0, 5, True)],
+         [(1, 5), (3, 5), (5, 5), (7, 5)])
+GREAT_STATE = ((0, 1, 2, 3, 6), (0, 1, 2), (0, 1, 2))
+
+# Two like parts, in which each line and each station may fail.
+DOUBLE = (4, [(0, 1, 1, 5), (0, 1, 2, 5), (2, 3, 1, 5), (2, 3, 2, 5)],
+          [(0, 0, 5, True), (1, 0, 5, True), (2, 0, 5, True), (3, 0, 5, True)], [(1, 5), (3, 5)])
+
+# A greatest net, from whose dark state far too many places are reached.
+VAST = (8, [(k, k + 1, 1, 1000) for k in range(7)] + [(0, 7, 1, 1000)],
+        [(k, 0, 1000, True) for k in range(4)], [(k + 4, 200) for k in range(4)])
+
+# Nets whose dark state reaches just so many places.
+REACHED = [
+    (1500, (2, [(0, 1, 2, 3), (0, 1, 5, 10), (0, 1, 4, 3), (0, 1, 3, 2), (0, 1, 1, 1), (0, 1, 5, 10)],
+            [(0, 0, 3, True)], [(1, 1), (0, 3), (1, 3), (1, 3)]), [("line", 4), ("station", 0)], 3),
+    (1500, (2, [(0, 1, 5, 10), (0, 1, 5, 10), (0, 1, 4, 3), (0, 1, 1, 2), (0, 1, 3, 3), (0, 1, 5, 10),
+                (0, 1, 2, 1), (0, 1, 4, 3)],
+            [(1, 0, 0, True), (1, 0, 6, True), (1, 2, 3, True)], [(0, 4)]), [("station", 2)], 0),
+    (1500, (5, [(0, 1, 2, 2), (0, 2, 3, 10), (1, 4, 5, 1), (0, 4, 3, 3)],
+            [(2, 1, 6, True), (4, 0, 5, True), (1, 1, 4, True)], [(1, 2), (4, 3), (2, 4)]),
+     [("line", 3), ("station", 0), ("line", 2)], 4),
+    (1500, (6, [(3, 5, 5, 3), (1, 4, 4, 2), (2, 3, 5, 1), (1, 5, 5, 2), (2, 3, 2, 3)],
+            [(3, 0, 2, True), (0, 0, 6, True), (5, 0, 5, False), (2, 0, 6, False)],
+            [(0, 4), (4, 1), (3, 2)]), [], 5),
+    (1501, (3, [(1, 2, 2, 3), (0, 2, 2, 10), (1, 2, 1, 2), (0, 1, 1, 2), (0, 1, 1, 10), (0, 2, 3, 3)],
+            [(1, 0, 5, False), (0, 0, 5, True), (1, 1, 3, True)], [(1, 1), (2, 2)]),
+     [("line", 3), ("line", 5), ("line", 1), ("station", 1), ("station", 2), ("station", 0), ("line", 0),
+      ("line", 2)], 0),
+    (1502, (2, [(0, 1, 4, 2), (0, 1, 4, 1), (0, 1, 1, 1), (0, 1, 1, 10), (0, 1, 1, 10), (0, 1, 1, 2),
+                (0, 1, 2, 10), (0, 1, 1, 10)], [(1, 0, 2, True)], [(1, 1), (1, 1), (0, 2)]), [], 0),
+]
+
+
+def small_net(random):
+    """Return a net with few states, on which faults often matter."""
+    nodes = random.randint(1, 3)
+    lines = []
+    for _ in range(random.randint(0, 3) if nodes > 1 else 0):
+        a, b = sorted(random.sample(range(nodes), 2))
+        lines.append((a, b, random.randint(1, 2), random.choice((0, 2, 5, 5))))
+    stations = []
+    for _ in range(random.randint(1, 3)):
+        least = random.choice((0, 0, 0, 1, 3))
+        stations.append((random.randrange(nodes), least, random.randint(max(1, least), 6),
+                         random.random() < 0.5))
+    loads = [(random.randrange(nodes), random.randint(1, 5)) for _ in range(random.randint(1, 2))]
+    return (nodes, lines, stations, loads)
+
+
+def small_tasks(seed, many):
+    """Return tasks on small nets, each with places, of which many are lit."""
+    random = Random(seed)
+    found = []
+    while len(found) < many:
+        net = small_net(random)
+        faults = [("line", k) for k in range(len(net[1]))] + [("station", k) for k in range(len(net[2]))]
+        random.shuffle(faults)
+        task = (net, faults[:random.randint(0, len(faults))])
+        states = [state for state in all_states(net) if wanted_sound(net, state)]
+        lit = [state for state in states if state[1]] or states
+        chosen = [random.choice(states), random.choice(lit), random.choice(lit), DARK]
+        found.append((task, [(state, random.choice((0, 0, 1, 1, 2, 3))) for state in chosen]))
+    return found
+
+
+TASKS = small_tasks(31, 60)

@@ -8,78 +8,10 @@ from math import gcd
 from random import Random
 
 from relume.dispatch import conditions_of, is_barrier, is_dispatch, is_feasible, run_island
-from tests.helper import (all_parts, all_states, assert_fresh, assert_plain, assert_unchanged,
-                          condition_values, inner_items, proves_dispatch, proves_none,
+from tests.helper import (ALL, PARTED, PARTED_STATE, RING, TREE, WHOLE, all_parts, all_states,
+                          assert_fresh, assert_plain, assert_unchanged, chain, condition_values, pair,
+                          pairs, proves_dispatch, proves_none, random_islands, random_part,
                           wanted_conditions, wanted_islands)
-
-
-def pair(value):
-    """Return the fraction of this value as a tuple."""
-    value = Fraction(value)
-    return (value.numerator, value.denominator)
-
-
-def pairs(*values):
-    return [pair(value) for value in values]
-
-
-def chain(strength, limit, least, greatest, amount):
-    """Return a net of a station at the node 0, a line, and a load at the node 1."""
-    return (2, [(0, 1, strength, limit)], [(0, least, greatest, True)], [(1, amount)])
-
-
-ALL = ((0,), (0,), (0,))
-
-# A net with two islands, open lines, a station that stands and a load that is not fed.
-PARTED = (6,
-          [(0, 2, 3, 10), (1, 4, 5, 20), (2, 5, 2, 0), (0, 1, 9, 9), (1, 4, 1, 1000), (0, 5, 4, 7)],
-          [(2, 1, 8, True), (4, 0, 30, False), (0, 2, 2, False), (1, 5, 6, True)],
-          [(5, 4), (1, 6), (3, 2), (0, 1)])
-PARTED_STATE = ((0, 1, 2, 4), (0, 1, 2), (0, 1, 3))
-
-# The greatest nets: a ring, and a tree with a line twice.
-RING = (8, [(k, k + 1, 3 + k, 40 + k) for k in range(7)] + [(0, 7, 11, 60)],
-        [(0, 0, 50, True), (3, 5, 60, False), (3, 0, 10, True), (6, 20, 30, False)],
-        [(1, 20), (4, 25), (4, 5), (7, 31)])
-TREE = (8, [(0, 4, 1, 30), (1, 4, 1000, 25), (4, 7, 7, 1000), (2, 7, 13, 90), (3, 7, 2, 90),
-            (3, 5, 6, 5), (3, 5, 3, 5), (3, 6, 1, 30)],
-        [(0, 0, 30, True), (1, 25, 25, False), (2, 0, 1000, False), (6, 3, 30, True)],
-        [(5, 10), (5, 1), (7, 60), (0, 9)])
-WHOLE = (tuple(range(8)), (0, 1, 2, 3), (0, 1, 2, 3))
-
-
-def random_net(random):
-    """Return a net whose islands are often close to what they can bear."""
-    nodes = random.randint(1, 8)
-    lines = []
-    for _ in range(random.randint(0, 8) if nodes > 1 else 0):
-        a, b = sorted(random.sample(range(nodes), 2))
-        lines.append((a, b, random.choice((1, 1, 2, 7, 1000)), random.choice((0, 1, 5, 10, 1000))))
-    stations = []
-    for _ in range(random.randint(0, 4)):
-        least = random.choice((0, 0, 1, 5, 1000))
-        stations.append((random.randrange(nodes), least, random.choice((least, max(least, 12), 1000)),
-                         random.choice((True, False))))
-    loads = [(random.randrange(nodes), random.choice((1, 2, 6, 9, 1000)))
-             for _ in range(random.randint(0, 4))]
-    return (nodes, lines, stations, loads)
-
-
-def random_part(random, many, chance):
-    return tuple(k for k in range(many) if random.random() < chance)
-
-
-def random_islands(seed, many):
-    """Return nets, states and islands, most of them lit ones."""
-    random = Random(seed)
-    found = []
-    while len(found) < many:
-        net = random_net(random)
-        state = tuple(random_part(random, len(items), 0.8) for items in net[1:])
-        for island in wanted_islands(net, state[0]):
-            if inner_items(net, state, island)[1] or random.random() < 0.1:
-                found.append((net, state, island))
-    return found
 
 
 class ConditionsTest(unittest.TestCase):

@@ -7,91 +7,13 @@ from random import Random
 from relume.errors import TooLong
 from relume.game import decide, is_guide, is_trap
 from relume.moves import answers, settled, steps_of
-from tests.helper import (DARK, all_states, assert_fresh, assert_plain, assert_unchanged,
-                          assert_unchanged_when_raised, full, proves_guide, proves_trap,
-                          wanted_choices, wanted_decision, wanted_sound)
-
-# One node with a station that begins by itself, and a load.
-ALONE = (1, [], [(0, 0, 5, True)], [(0, 5)])
-ON = ((), (0,), ())
-LIT = ((), (0,), (0,))
-
-# The station begins not by itself; the load is behind a line.
-BEHIND = (2, [(0, 1, 1, 5)], [(0, 0, 5, False)], [(1, 5)])
-
-# Two lines beside each other, each of which bears the load alone.
-TWIN = (2, [(0, 1, 1, 5), (0, 1, 1, 5)], [(0, 0, 9, True)], [(1, 5)])
+from tests.helper import (ALONE, BEHIND, DARK, DOUBLE, GREAT, GREAT_STATE, LIT, ON, REACHED, TASKS, TWIN,
+                          all_states, assert_fresh, assert_plain, assert_unchanged,
+                          assert_unchanged_when_raised, full, proves_guide, proves_trap, wanted_choices,
+                          wanted_decision, wanted_sound)
 
 # A helper that does not begin by itself.
 PAIR = (2, [(0, 1, 1, 5)], [(0, 0, 8, True), (1, 2, 6, False)], [(0, 3), (1, 9)])
-
-# 8 nodes, 8 lines, 4 stations and 4 loads: four parts, three of which are lit and may not change.
-GREAT = (8,
-         [(0, 1, 1, 5), (0, 1, 1, 5), (2, 3, 1, 5), (4, 5, 1, 5), (6, 7, 1, 5), (6, 7, 2, 5),
-          (1, 2, 1, 0), (3, 4, 1, 0)],
-         [(0, 5, 5, False), (2, 5, 5, False), (4, 5, 5, False), (6, 0, 5, True)],
-         [(1, 5), (3, 5), (5, 5), (7, 5)])
-GREAT_STATE = ((0, 1, 2, 3, 6), (0, 1, 2), (0, 1, 2))
-
-# Two like parts, in which each line and each station may fail.
-DOUBLE = (4, [(0, 1, 1, 5), (0, 1, 2, 5), (2, 3, 1, 5), (2, 3, 2, 5)],
-          [(0, 0, 5, True), (1, 0, 5, True), (2, 0, 5, True), (3, 0, 5, True)], [(1, 5), (3, 5)])
-
-# Nets whose dark state reaches just so many places.
-REACHED = [
-    (1500, (2, [(0, 1, 2, 3), (0, 1, 5, 10), (0, 1, 4, 3), (0, 1, 3, 2), (0, 1, 1, 1), (0, 1, 5, 10)],
-            [(0, 0, 3, True)], [(1, 1), (0, 3), (1, 3), (1, 3)]), [("line", 4), ("station", 0)], 3),
-    (1500, (2, [(0, 1, 5, 10), (0, 1, 5, 10), (0, 1, 4, 3), (0, 1, 1, 2), (0, 1, 3, 3), (0, 1, 5, 10),
-                (0, 1, 2, 1), (0, 1, 4, 3)],
-            [(1, 0, 0, True), (1, 0, 6, True), (1, 2, 3, True)], [(0, 4)]), [("station", 2)], 0),
-    (1500, (5, [(0, 1, 2, 2), (0, 2, 3, 10), (1, 4, 5, 1), (0, 4, 3, 3)],
-            [(2, 1, 6, True), (4, 0, 5, True), (1, 1, 4, True)], [(1, 2), (4, 3), (2, 4)]),
-     [("line", 3), ("station", 0), ("line", 2)], 4),
-    (1500, (6, [(3, 5, 5, 3), (1, 4, 4, 2), (2, 3, 5, 1), (1, 5, 5, 2), (2, 3, 2, 3)],
-            [(3, 0, 2, True), (0, 0, 6, True), (5, 0, 5, False), (2, 0, 6, False)],
-            [(0, 4), (4, 1), (3, 2)]), [], 5),
-    (1501, (3, [(1, 2, 2, 3), (0, 2, 2, 10), (1, 2, 1, 2), (0, 1, 1, 2), (0, 1, 1, 10), (0, 2, 3, 3)],
-            [(1, 0, 5, False), (0, 0, 5, True), (1, 1, 3, True)], [(1, 1), (2, 2)]),
-     [("line", 3), ("line", 5), ("line", 1), ("station", 1), ("station", 2), ("station", 0), ("line", 0),
-      ("line", 2)], 0),
-    (1502, (2, [(0, 1, 4, 2), (0, 1, 4, 1), (0, 1, 1, 1), (0, 1, 1, 10), (0, 1, 1, 10), (0, 1, 1, 2),
-                (0, 1, 2, 10), (0, 1, 1, 10)], [(1, 0, 2, True)], [(1, 1), (1, 1), (0, 2)]), [], 0),
-]
-
-
-def small_net(random):
-    """Return a net with few states, on which faults often matter."""
-    nodes = random.randint(1, 3)
-    lines = []
-    for _ in range(random.randint(0, 3) if nodes > 1 else 0):
-        a, b = sorted(random.sample(range(nodes), 2))
-        lines.append((a, b, random.randint(1, 2), random.choice((0, 2, 5, 5))))
-    stations = []
-    for _ in range(random.randint(1, 3)):
-        least = random.choice((0, 0, 0, 1, 3))
-        stations.append((random.randrange(nodes), least, random.randint(max(1, least), 6),
-                         random.random() < 0.5))
-    loads = [(random.randrange(nodes), random.randint(1, 5)) for _ in range(random.randint(1, 2))]
-    return (nodes, lines, stations, loads)
-
-
-def small_tasks(seed, many):
-    """Return tasks on small nets, each with places, of which many are lit."""
-    random = Random(seed)
-    found = []
-    while len(found) < many:
-        net = small_net(random)
-        faults = [("line", k) for k in range(len(net[1]))] + [("station", k) for k in range(len(net[2]))]
-        random.shuffle(faults)
-        task = (net, faults[:random.randint(0, len(faults))])
-        states = [state for state in all_states(net) if wanted_sound(net, state)]
-        lit = [state for state in states if state[1]] or states
-        chosen = [random.choice(states), random.choice(lit), random.choice(lit), DARK]
-        found.append((task, [(state, random.choice((0, 0, 1, 1, 2, 3))) for state in chosen]))
-    return found
-
-
-TASKS = small_tasks(31, 60)
 
 
 class DecideCase(unittest.TestCase):

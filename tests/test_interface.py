@@ -23,12 +23,22 @@ FUNCTIONS = {
               "check_place": ["task", "place"], "answers": ["task", "place", "step"]},
     "game": {"is_guide": ["task", "place", "guide"], "is_trap": ["task", "place", "trap"],
              "decide": ["task", "place"]},
+    "plays": {"decided_step": ["task", "place"], "play": ["task", "place", "choices"]},
+    "costs": {"cost_of": ["net", "state", "island", "costs", "outputs"],
+              "least_run": ["net", "state", "island", "costs"],
+              "is_least": ["net", "state", "island", "costs", "answer"],
+              "total_cost": ["net", "state", "costs"]},
+    "losses": {"loss_of": ["net", "state", "fault"], "harmful_faults": ["task", "state"],
+               "is_secure": ["task", "state"], "worst_losses": ["task", "state", "strikes"]},
 }
 
 CLASSES = {
     "errors": ["LightError", "BadNet", "BadState", "OutOfRange", "NotAllowed", "TooLong",
                "BadCommand"],
+    "desk": ["Desk"],
 }
+
+METHODS = {("desk", "Desk"): {"__init__": ["self", "task", "strikes"], "ask": ["self", "command"]}}
 
 
 def defined_names(file, kind):
@@ -52,6 +62,14 @@ class InterfaceTest(unittest.TestCase):
             for name in classes:
                 with self.subTest(file=file, name=name):
                     self.assertIn(name, defined_names(file, ast.ClassDef))
+
+    def test_methods(self):
+        for (file, name), methods in METHODS.items():
+            told = getattr(import_module(f"relume.{file}"), name)
+            for method, parameters in methods.items():
+                with self.subTest(file=file, name=name, method=method):
+                    self.assertIn(method, vars(told))
+                    self.assertEqual(list(inspect.signature(vars(told)[method]).parameters), parameters)
 
     def test_arguments_may_be_passed_by_name(self):
         nets = import_module("relume.nets")
@@ -101,6 +119,75 @@ class InterfaceTest(unittest.TestCase):
         self.assertEqual(game.decide(task=task, place=place), ("lit", 0, []))
         self.assertIs(game.is_guide(task=task, place=place, guide=[]), True)
         self.assertIs(game.is_trap(task=task, place=place, trap=[]), False)
+
+    def test_arguments_of_plays_and_of_a_desk_may_be_passed_by_name(self):
+        plays = import_module("relume.plays")
+        desk = import_module("relume.desk")
+        task = ((1, [], [(0, 0, 1, True)], [(0, 1)]), [])
+        place = (((), (0,), ()), 0)
+        self.assertEqual(plays.decided_step(task=task, place=place), ("feed", 0))
+        self.assertEqual(plays.play(task=task, place=place, choices=[]), [place, (((), (0,), (0,)), 0)])
+        self.assertEqual(desk.Desk(task=task, strikes=4).ask(command="state"), "- - - 4")
+
+    def test_arguments_of_costs_and_losses_may_be_passed_by_name(self):
+        costs = import_module("relume.costs")
+        losses = import_module("relume.losses")
+        net = (1, [], [(0, 1, 1, True)], [(0, 1)])
+        state = ((), (0,), (0,))
+        self.assertEqual(costs.cost_of(net=net, state=state, island=[0], costs=[3], outputs=[(1, 1)]), (3, 1))
+        answer = costs.least_run(net=net, state=state, island=[0], costs=[3])
+        self.assertEqual(answer[:4], ("least", (3, 1), [(1, 1)], [(0, 1)]))
+        self.assertIs(costs.is_least(net=net, state=state, island=[0], costs=[3], answer=answer), True)
+        self.assertEqual(costs.total_cost(net=net, state=state, costs=[3]), (3, 1))
+        task = (net, [("station", 0)])
+        self.assertEqual(losses.loss_of(net=net, state=state, fault=("station", 0)), ([], [0]))
+        self.assertEqual(losses.harmful_faults(task=task, state=state), [("station", 0)])
+        self.assertIs(losses.is_secure(task=task, state=state), False)
+        self.assertEqual(losses.worst_losses(task=task, state=state, strikes=1), 1)
+
+
+class PackageTest(unittest.TestCase):
+    """Promise 2 over the whole program, as far as its text shows it."""
+
+    def rows(self):
+        """Return each statement and expression of the package, with the name of its file."""
+        files = sorted(PACKAGE.glob("*.py"))
+        self.assertGreater(len(files), 10)
+        return [(file.name, row) for file in files for row in ast.walk(ast.parse(file.read_text(encoding="ascii")))]
+
+    def test_only_the_package_and_integers_are_imported(self):
+        # So there is no clock, no random source, no file and no network.
+        for file, row in self.rows():
+            self.assertNotIsInstance(row, ast.Import)
+            if isinstance(row, ast.ImportFrom):
+                with self.subTest(file=file, line=row.lineno):
+                    names = {alias.name for alias in row.names}
+                    self.assertTrue(row.module.startswith("relume.") or row.module == "math")
+                    if row.module == "math":
+                        self.assertLessEqual(names, {"gcd", "lcm"})
+
+    def test_no_files_and_no_input(self):
+        for file, row in self.rows():
+            if isinstance(row, ast.Name):
+                with self.subTest(file=file, line=row.lineno):
+                    self.assertNotIn(row.id, ("open", "input", "print", "eval", "exec", "compile", "float", "complex"))
+
+    def test_only_integers(self):
+        for file, row in self.rows():
+            self.assertNotIsInstance(row, ast.Div)
+            if isinstance(row, ast.Constant):
+                with self.subTest(file=file, line=row.lineno):
+                    self.assertIn(type(row.value), (int, str, bool, type(None)))
+
+    def test_only_the_classes_of_errors_are_raised(self):
+        raised = set()
+        for file, row in self.rows():
+            if isinstance(row, ast.Raise):
+                with self.subTest(file=file, line=row.lineno):
+                    self.assertIn(row.exc.func.id, CLASSES["errors"][1:])
+                    self.assertEqual(len(row.exc.args), 1)
+                    raised.add(row.exc.func.id)
+        self.assertEqual(raised, set(CLASSES["errors"][1:]))
 
 
 if __name__ == "__main__":

@@ -7,8 +7,8 @@ from random import Random
 from relume.errors import BadNet, BadState, NotAllowed
 from relume.moves import (after_fault, after_step, answers, check_place, check_task, is_sound,
                           settled, steps_of)
-from tests.helper import (DARK, WORDS, all_states, assert_fresh, assert_plain, assert_unchanged,
-                          assert_unchanged_when_raised, full, wanted_answers, wanted_fault,
+from tests.helper import (DARK, TWIN, WORDS, all_states, assert_fresh, assert_plain, assert_unchanged,
+                          assert_unchanged_when_raised, full, random_part, wanted_answers, wanted_fault,
                           wanted_settled, wanted_sound, wanted_step, wanted_steps)
 
 HUGE = 10 ** 30
@@ -18,9 +18,6 @@ PAIR = (2, [(0, 1, 1, 5)], [(0, 0, 8, True), (1, 2, 6, False)], [(0, 3), (1, 4)]
 
 # One node: a load that only both stations together can feed.
 NODE = (1, [], [(0, 0, 3, True), (0, 1, 3, False)], [(0, 5), (0, 1)])
-
-# Two lines beside each other, each of which bears the load alone.
-TWIN = (2, [(0, 1, 1, 5), (0, 1, 1, 5)], [(0, 0, 9, True)], [(1, 5)])
 
 # A line that bears less the more lines are closed, and a node apart.
 MESH = (4, [(0, 1, 1, 10), (1, 2, 1, 10), (0, 2, 8, 3)], [(0, 0, 10, True), (3, 0, 0, True)],
@@ -41,10 +38,6 @@ SMALL = [PAIR, NODE, TWIN, MESH,
          (2, [(0, 1, 3, 4)], [(0, 2, 4, True), (1, 0, 4, False)], [(1, 2), (1, 2)]),
          (3, [(0, 1, 1, 3), (0, 2, 1, 3), (1, 2, 1, 3)], [(0, 0, 6, True), (1, 1, 2, False)],
           [(2, 3), (2, 2)])]
-
-
-def random_part(random, many, chance):
-    return tuple(k for k in range(many) if random.random() < chance)
 
 
 def random_states(random, net, many):
