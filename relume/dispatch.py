@@ -57,6 +57,13 @@ class Island:
                 form = plus(form, -1 if line[0] == node else 1, self.flow(line))
         return form
 
+    def may_balance(self):
+        """Tell whether the stations can put out in sum what the loads take in sum."""
+        taken = sum([amount for _, amount in self.loads])
+        least = sum([station[1] for station in self.stations])
+        greatest = sum([station[2] for station in self.stations])
+        return least <= taken <= greatest
+
     def conditions(self):
         """Return the conditions of the stations, the lines and the nodes."""
         found = []
@@ -116,4 +123,6 @@ def run_island(net, state, island):
 
 def is_feasible(net, state, island):
     """Tell whether the island has a dispatch."""
-    return run_island(net, state, island)[0] == "yes"
+    within = Island(net, state, island)
+    # The sums rule out most islands that cannot run, in much less time than the conditions.
+    return within.may_balance() and solve(within.conditions(), within.count)[0] == "yes"
